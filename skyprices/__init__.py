@@ -1,0 +1,1 @@
+"""Skyprices: what comes down from many craft, and what it must be worth."""

@@ -1,0 +1,1 @@
+"""Tests of skyprices, one file for each part."""
