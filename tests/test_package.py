@@ -6,6 +6,7 @@ import pathlib
 import unittest
 
 from skyprices import days
+from tests.samples import places_in, running_day
 
 PACKAGE = pathlib.Path(days.__file__).parent
 LIBRARY = {"heapq", "math", "itertools", "collections"}
@@ -22,6 +23,15 @@ class InterfaceTest(unittest.TestCase):
             function = getattr(days, name)
             self.assertEqual(function.__module__, "skyprices.days")
             self.assertEqual(list(inspect.signature(function).parameters), parameters)
+
+
+class CopyTest(unittest.TestCase):
+    def test_a_copied_day_shares_no_list(self):
+        day = running_day()
+        copied = days.copy_of_day(day)
+        self.assertEqual(copied, day)
+        lists = [part for thing in (day, copied) for _, part in places_in(thing) if isinstance(part, list)]
+        self.assertEqual(len({id(part) for part in lists}), len(lists))
 
 
 class FormTest(unittest.TestCase):
