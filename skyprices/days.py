@@ -12,10 +12,15 @@ MOST_HOUSE = 5
 MOST_WORTH = 9999
 
 
+def is_number(thing):
+    """True where the thing is a whole number."""
+    # A truth is an int to Python, but no number here.
+    return isinstance(thing, int) and not isinstance(thing, bool)
+
+
 def is_whole(thing, least, most):
     """True where the thing is a whole number from least to most."""
-    # A truth is an int to Python, but no number here.
-    return isinstance(thing, int) and not isinstance(thing, bool) and least <= thing <= most
+    return is_number(thing) and least <= thing <= most
 
 
 def is_list(thing, least, most):
