@@ -74,10 +74,11 @@ def _are_asks(thing, dishes):
 
 
 def _are_blocks(thing, hours, craft):
-    return is_list(thing, 0, MOST_BLOCKS) and all(_is_block(block, hours, craft) for block in thing)
+    return is_list(thing, 0, MOST_BLOCKS) and all(is_block(block, hours, craft) for block in thing)
 
 
-def _is_block(thing, hours, craft):
+def is_block(thing, hours, craft):
+    """True where the thing is a block of a day of so many hours and craft."""
     if not is_tuple(thing, 5):
         return False
     house, number, ready, due, worth = thing

@@ -6,7 +6,8 @@ from skyprices.nets import Net, net_of_taken
 from skyprices.things import all_rests, is_number_of_block, numbers_in, rests_in, things_in_order, worth_of
 
 
-def _taken(day):
+def taken_things(day):
+    """The things of the day that are taken, in their order; for what surely is a day."""
     net, taken, lost = net_of_taken(day)
     return taken
 
@@ -14,26 +15,26 @@ def _taken(day):
 def kept(day):
     """The numbers of the blocks that are kept, rising."""
     need_day(day)
-    return numbers_in(_taken(day))
+    return numbers_in(taken_things(day))
 
 
 def rests(day):
     """The dish hours of other rooms that are left alone, rising."""
     need_day(day)
-    return rests_in(_taken(day))
+    return rests_in(taken_things(day))
 
 
 def rented(day):
     """The dish hours of other rooms that are not left alone, rising."""
     need_day(day)
-    left = rests_in(_taken(day))
+    left = rests_in(taken_things(day))
     return [rest for rest in all_rests(day) if rest not in left]
 
 
 def gain(day):
     """The greatest gain of the day: the worth of the kept blocks, less what is asked for the rented hours."""
     need_day(day)
-    taken = sum(worth_of(day, thing) for thing in _taken(day))
+    taken = sum(worth_of(day, thing) for thing in taken_things(day))
     # Each rest that is taken gives back what all dish hours together would cost.
     return taken - sum(worth_of(day, ("rest", dish, hour)) for dish, hour in all_rests(day))
 

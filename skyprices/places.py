@@ -36,3 +36,14 @@ def dishes_hearing(day, craft, hour):
     """The dishes that may hear the craft at this hour, rising."""
     hours, stores, sights, asks, blocks = day
     return [dish for dish in range(len(sights)) if craft in sights[dish][hour]]
+
+
+def all_dish_hours(day):
+    """All dish hours of the day, as tuples (dish, hour), rising."""
+    hours, stores, sights, asks, blocks = day
+    return [(dish, hour) for dish in range(len(sights)) for hour in range(hours)]
+
+
+def is_dish_hour(day, dish, hour):
+    """True where these are a dish and an hour of the day."""
+    return is_place(day, ("dish", dish, hour))

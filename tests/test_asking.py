@@ -1,4 +1,4 @@
-"""Point 2, for all functions of the stages 3 to 6: how they are asked, and whose the answers are."""
+"""Point 2, for all functions of the stages 3 to 9: how they are asked, and whose the answers are."""
 
 import copy
 import importlib
@@ -10,6 +10,7 @@ from skyprices.errors import SkyError
 from skyprices.houses import told_otherwise
 from skyprices.kept import best_plan, lost_paper
 from skyprices.prices import prices
+from skyprices.texts import show_day
 from skyprices.ways import bars_for
 from tests.samples import places_in, running_day
 
@@ -32,6 +33,13 @@ INTERFACE = {
     "block_prices": ("houses", "day"),
     "told_otherwise": ("houses", "day number worth"),
     "bills": ("houses", "day"),
+    "broken": ("changes", "day dish hour"),
+    "goes_by": ("changes", "day dish hour"),
+    "falls": ("changes", "day"),
+    "told_anew": ("changes", "day block"),
+    "puts_out": ("changes", "day block"),
+    "show_day": ("texts", "day"),
+    "read_day": ("texts", "text"),
 }
 
 
@@ -56,6 +64,8 @@ def askings():
         for resting in ([], (), [(1, 0), (1, 2)], ((1, 1), (1, 2)), [(0, 0)])
     ]
     places = [bars_for(day, list(range(7))), [], [("store", 0, 0)], None]
+    hours = [{"day": day, "dish": dish, "hour": hour} for dish, hour in ((0, 0), (0, 1), (1, 2), (1, 4), (None, 0))]
+    blocks = [{"day": day, "block": block} for block in ((0, 0, 0, None, 99), (1, 1, 1, 2, 1), (0, 0, 4, None, 1), [])]
     told = {
         "can_have": having, "plan_for": having, "bars_for": having,
         "bars": [{**one, "places": some} for one in having for some in places],
@@ -68,10 +78,11 @@ def askings():
         "told_otherwise": [
             {"day": day, "number": number, "worth": worth} for number in (0, 6, 7) for worth in (1, 9999, 0)
         ],
+        "broken": hours, "goes_by": hours, "told_anew": blocks, "puts_out": blocks,
+        "read_day": [{"text": text} for text in (show_day(day), show_day(day) + "\n", "", None)],
     }
-    return [
-        (name, copy.deepcopy(one))
-        for name in INTERFACE for one in told.get(name, [{"day": day}]) + [{**told.get(name, [{}])[0], "day": None}]
+    return [(name, copy.deepcopy(one)) for name in INTERFACE for one in told.get(name, [{"day": day}])] + [
+        (name, copy.deepcopy({**told.get(name, [{}])[0], "day": None})) for name in INTERFACE if name != "read_day"
     ]
 
 
@@ -218,7 +229,7 @@ class OwnTest(unittest.TestCase):
 
     def test_each_kind_of_answer_is_asked(self):
         kinds = {type(answer(name, arguments)) for name, arguments in askings()}
-        self.assertEqual(kinds, {bool, int, list, dict, tuple, type(None), type})
+        self.assertEqual(kinds, {bool, int, str, list, dict, tuple, type(None), type})
         self.assertIsInstance(lost_paper(own_day(), 5), list)
 
 
